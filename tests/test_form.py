@@ -1,0 +1,81 @@
+"""The interface as it is written, and what of ../shared/LANGUAGE.md can be measured."""
+
+import ast
+import pathlib
+import unittest
+
+FOLDER = pathlib.Path(__file__).resolve().parent.parent / "treehands"
+FUNCTIONS = {
+    "trees": ("is_tree(book, tree)", "kids_of(book, tree)", "height(book, tree)", "parts(book, tree)",
+              "ahead(book, one, other)", "places(book, tree)", "at(book, tree, place)",
+              "put(book, tree, place, other)"),
+}
+CLASSES = {
+    "signs": {"Book": ("__init__(self, signs)", "many(self)", "name(self, sign)", "kids(self, sign)",
+                       "number(self, name)", "is_like(self, book)")},
+}
+LIBRARY = ("heapq", "math", "itertools", "collections", "__future__")
+
+
+def source(path):
+    return path.read_text(encoding="utf-8")
+
+
+def files():
+    return sorted(path for path in FOLDER.rglob("*") if "__pycache__" not in path.parts and path.is_file())
+
+
+def defined(body):
+    """The functions that stand straight in a body, as they are called."""
+    return [f"{node.name}({', '.join(arg.arg for arg in node.args.args)})"
+            for node in body if isinstance(node, ast.FunctionDef)]
+
+
+class InterfaceTest(unittest.TestCase):
+    def test_functions_stand_in_their_files(self):
+        for name, wanted in FUNCTIONS.items():
+            there = defined(ast.parse(source(FOLDER / f"{name}.py")).body)
+            for function in wanted:
+                self.assertIn(function, there)
+
+    def test_methods_stand_in_their_classes(self):
+        for name, classes in CLASSES.items():
+            tree = ast.parse(source(FOLDER / f"{name}.py"))
+            bodies = {node.name: node.body for node in tree.body if isinstance(node, ast.ClassDef)}
+            for told, wanted in classes.items():
+                for method in wanted:
+                    self.assertIn(method, defined(bodies[told]))
+
+
+class LanguageTest(unittest.TestCase):
+    def test_folder_holds_nothing_but_python(self):
+        for path in files():
+            self.assertRegex(path.name, r"\A[a-z0-9_]+\.py\Z")
+
+    def test_files_and_lines_are_short_and_plain(self):
+        for path in files():
+            lines = source(path).split("\n")
+            self.assertLessEqual(len(lines) - 1, 399, path.name)
+            for line in lines:
+                self.assertLessEqual(len(line), 120, path.name)
+                self.assertTrue(all(" " <= sign <= "~" for sign in line), path.name)
+
+    def test_functions_are_short(self):
+        for path in files():
+            for node in ast.walk(ast.parse(source(path))):
+                if isinstance(node, (ast.FunctionDef, ast.Lambda)):
+                    self.assertLessEqual(node.end_lineno - node.lineno + 1, 40, path.name)
+
+    def test_imports_are_full_and_of_the_package(self):
+        for path in files():
+            tree = ast.parse(source(path))
+            self.assertFalse([node for node in ast.walk(tree) if isinstance(node, ast.Import)])
+            for node in ast.walk(tree):
+                if isinstance(node, ast.ImportFrom):
+                    self.assertIn(node, tree.body)
+                    self.assertEqual(node.level, 0)
+                    self.assertTrue(node.module.startswith("treehands.") or node.module in LIBRARY)
+
+
+if __name__ == "__main__":
+    unittest.main()

@@ -1,0 +1,1 @@
+"""Treehands: trees, readers from their leaves, and turners from their top."""
