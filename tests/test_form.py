@@ -9,10 +9,16 @@ FUNCTIONS = {
     "trees": ("is_tree(book, tree)", "kids_of(book, tree)", "height(book, tree)", "parts(book, tree)",
               "ahead(book, one, other)", "places(book, tree)", "at(book, tree, place)",
               "put(book, tree, place, other)"),
+    "sets": ("joined(one, other)", "met(one, other)", "less(one, other)", "about(reader)", "least(reader)",
+             "first_to(reader)", "first(reader)", "same(one, other)", "shows(one, other, pairs)"),
 }
 CLASSES = {
     "signs": {"Book": ("__init__(self, signs)", "many(self)", "name(self, sign)", "kids(self, sign)",
                        "number(self, name)", "is_like(self, book)")},
+    "readers": {"Reader": ("__init__(self, book, moods, tables, liked)", "book(self)", "moods(self)",
+                           "table(self, sign)", "liked(self)", "mood(self, tree)", "likes(self, tree)")},
+    "guesses": {"Guesser": ("__init__(self, book, moods, rules, liked)", "moods_of(self, tree)",
+                            "likes(self, tree)", "reader(self)")},
 }
 LIBRARY = ("heapq", "math", "itertools", "collections", "__future__")
 
@@ -65,6 +71,20 @@ class LanguageTest(unittest.TestCase):
             for node in ast.walk(ast.parse(source(path))):
                 if isinstance(node, (ast.FunctionDef, ast.Lambda)):
                     self.assertLessEqual(node.end_lineno - node.lineno + 1, 40, path.name)
+
+    def test_nothing_that_the_subset_leaves_out(self):
+        for path in files():
+            for node in ast.walk(ast.parse(source(path))):
+                self.assertNotIsInstance(node, (ast.Div, ast.Await, ast.AsyncFunctionDef), path.name)
+                if isinstance(node, ast.Constant):
+                    self.assertNotIsInstance(node.value, (float, complex), path.name)
+                    self.assertNotIn("%", str(node.value), path.name)
+
+    def test_no_decorators_over_functions_and_classes(self):
+        for path in files():
+            for node in ast.parse(source(path)).body:
+                if isinstance(node, (ast.FunctionDef, ast.ClassDef)):
+                    self.assertEqual(node.decorator_list, [], path.name)
 
     def test_imports_are_full_and_of_the_package(self):
         for path in files():

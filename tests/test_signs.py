@@ -2,18 +2,15 @@
 
 import unittest
 
-from treehands.errors import HandError
+from given import GREAT, HandTest
 from treehands.signs import Book
 
 SIX = [("a", 0), ("bc", 1), ("xyz", 2), ("z", 0), ("aa", 1), ("aaa", 2)]
-GREAT = 10 ** 29
 
 
-class BookTest(unittest.TestCase):
-    def refused(self, signs):
-        with self.assertRaises(HandError) as caught:
-            Book(signs)
-        self.assertEqual(caught.exception.__class__.__name__, "NoBook")
+class BookTest(HandTest):
+    def no_book(self, signs):
+        self.refused("NoBook", Book, signs)
 
     def told(self, signs):
         book = Book(signs)
@@ -53,16 +50,16 @@ class BookTest(unittest.TestCase):
                 self.assertIsNone(book.number(name))
 
     def test_no_sign_and_too_many_signs(self):
-        self.refused([])
-        self.refused(SIX + [("b", 0)])
-        self.refused([("a" + letter, 0) for letter in "abcdefghijklmnopqrst"])
-        self.refused([("a", 0)] * 100)
+        self.no_book([])
+        self.no_book(SIX + [("b", 0)])
+        self.no_book([("a" + letter, 0) for letter in "abcdefghijklmnopqrst"])
+        self.no_book([("a", 0)] * 100)
 
     def test_names_too_short_and_too_long(self):
-        self.refused([("", 0)])
-        self.refused([("a", 0), ("", 1)])
-        self.refused([("abcd", 0)])
-        self.refused([("a", 0), ("a" * 100, 1)])
+        self.no_book([("", 0)])
+        self.no_book([("a", 0), ("", 1)])
+        self.no_book([("abcd", 0)])
+        self.no_book([("a", 0), ("a" * 100, 1)])
 
     def test_names_with_other_signs_than_small_letters(self):
         others = ["A", "Z", "0", "9", " ", "`", "{", "_", "-", ".", "\n", "\t", "'", "("]
@@ -71,32 +68,32 @@ class BookTest(unittest.TestCase):
         for other in others:
             for name in (other, other + "a", "a" + other, other + "ab", "a" + other + "b", "ab" + other):
                 with self.subTest(name=name):
-                    self.refused([(name, 0)])
-                    self.refused([("a", 0), (name, 1)])
+                    self.no_book([(name, 0)])
+                    self.no_book([("a", 0), (name, 1)])
 
     def test_one_name_twice(self):
-        self.refused([("a", 0), ("a", 0)])
-        self.refused([("a", 0), ("a", 1)])
-        self.refused([("a", 0), ("b", 1), ("c", 2), ("d", 0), ("e", 0), ("a", 2)])
-        self.refused([("a", 0), ("abc", 1), ("abc", 2)])
+        self.no_book([("a", 0), ("a", 0)])
+        self.no_book([("a", 0), ("a", 1)])
+        self.no_book([("a", 0), ("b", 1), ("c", 2), ("d", 0), ("e", 0), ("a", 2)])
+        self.no_book([("a", 0), ("abc", 1), ("abc", 2)])
 
     def test_numbers_of_kids_out_of_bounds(self):
         for kids in (-1, 3, 4, -2, -3, GREAT, -GREAT, 10 ** 30 - 1):
             with self.subTest(kids=kids):
-                self.refused([("b", kids)])
-                self.refused([("a", 0), ("b", kids)])
-                self.refused([("b", kids), ("a", 0)])
+                self.no_book([("b", kids)])
+                self.no_book([("a", 0), ("b", kids)])
+                self.no_book([("b", kids), ("a", 0)])
 
     def test_no_sign_without_kids(self):
-        self.refused([("a", 1)])
-        self.refused([("a", 2)])
-        self.refused([("a", 1), ("b", 2), ("c", 1)])
+        self.no_book([("a", 1)])
+        self.no_book([("a", 2)])
+        self.no_book([("a", 1), ("b", 2), ("c", 1)])
 
     def test_tuples_of_another_length(self):
-        self.refused([()])
-        self.refused([("a",)])
-        self.refused([("a", 0, 0)])
-        self.refused([("a", 0), ("b", 1, "c")])
+        self.no_book([()])
+        self.no_book([("a",)])
+        self.no_book([("a", 0, 0)])
+        self.no_book([("a", 0), ("b", 1, "c")])
 
     def test_is_like(self):
         book = Book(SIX)
@@ -130,7 +127,7 @@ class BookTest(unittest.TestCase):
         Book(signs)
         self.assertEqual(signs, SIX)
         wrong = [("a", 0), ("a", 1)]
-        self.refused(wrong)
+        self.no_book(wrong)
         self.assertEqual(wrong, [("a", 0), ("a", 1)])
 
     def test_list_is_not_kept(self):

@@ -4,28 +4,10 @@ import functools
 import unittest
 
 import slow
-from treehands.errors import HandError
+from given import BOOK, COMB, GREAT, LEAF, NO_TREES, PATH, TREE, TWO, HandTest
 from treehands.signs import Book
 from treehands.trees import ahead, at, height, is_tree, kids_of, parts, places, put
 
-# The book of the document: sign 0 has no kids, sign 1 has one, sign 2 two.
-BOOK = Book([("a", 0), ("g", 1), ("f", 2)])
-TWO = Book([("f", 2), ("a", 0), ("b", 0)])
-LEAF = (0,)
-TREE = (2, 1, 0, 0)
-PATH = (1,) * 39 + (0,)
-COMB = (2, 0) * 19 + (1, 0)
-GREAT = 10 ** 29
-
-NO_TREES = (
-    (),
-    (1,), (2,), (2, 0), (2, 1, 0), (1, 1), (2, 2, 0, 0),
-    (0, 0), (1, 0, 0), (0, 1), (2, 0, 0, 0), (2, 1, 0, 0, 0), (0, 2, 0, 0),
-    (3,), (-1,), (-3,), (1, 3), (1, -1), (2, 0, 3), (2, -3, 0), (2, 0, -1), (3, 0, 0),
-    (GREAT,), (-GREAT,), (2, GREAT, 0), (1, -GREAT), (10 ** 30 - 1,), (2, 0, 10 ** 30 - 1),
-    (1,) * 40 + (0,), (2, 0) * 20 + (0,), (0,) * 41, (0,) * 40, (1,) * 40, (1,) * 100,
-    (1,) * 99 + (0,), (2, 0) * 150 + (0,),
-)
 NO_PLACES_OF_TREE = (
     (2,), (-1,), (GREAT,), (-GREAT,), (10 ** 30 - 1,),
     (0, 1), (0, 2), (0, -1), (0, GREAT), (0, -GREAT),
@@ -34,14 +16,7 @@ NO_PLACES_OF_TREE = (
 )
 
 
-class TreesTest(unittest.TestCase):
-    def refused(self, name, call, *told):
-        with self.assertRaises(HandError) as caught:
-            call(*told)
-        self.assertEqual(caught.exception.__class__.__name__, name)
-
-
-class RowsTest(TreesTest):
+class RowsTest(HandTest):
     def test_row_of_the_document(self):
         self.assertIs(is_tree(BOOK, TREE), True)
         self.assertEqual(kids_of(BOOK, TREE), [(1, 0), (0,)])
@@ -136,7 +111,7 @@ class RowsTest(TreesTest):
         self.assertEqual(tree, (2, 1, 0, 0))
 
 
-class OrderTest(TreesTest):
+class OrderTest(HandTest):
     def holds(self, book, one, other):
         self.assertEqual(ahead(book, one, other), -1)
         self.assertEqual(ahead(book, other, one), 1)
@@ -183,7 +158,7 @@ class OrderTest(TreesTest):
                     self.assertEqual(ahead(book, slow.row(one), slow.row(other)), slow.ahead(one, other))
 
 
-class PartsTest(TreesTest):
+class PartsTest(HandTest):
     def test_each_part_once_in_order(self):
         self.assertEqual(parts(BOOK, LEAF), [(0,)])
         self.assertEqual(parts(BOOK, TREE), [(0,), (1, 0), TREE])
@@ -211,7 +186,7 @@ class PartsTest(TreesTest):
         self.assertEqual(parts(BOOK, TREE), [(0,), (1, 0), TREE])
 
 
-class PlacesTest(TreesTest):
+class PlacesTest(HandTest):
     def test_places_as_tuples_compare(self):
         self.assertEqual(places(BOOK, LEAF), [()])
         self.assertEqual(places(BOOK, TREE), [(), (0,), (0, 0), (1,)])
@@ -281,7 +256,7 @@ class PlacesTest(TreesTest):
         self.assertEqual(places(BOOK, TREE), [(), (0,), (0, 0), (1,)])
 
 
-class LeftFirstTest(TreesTest):
+class LeftFirstTest(HandTest):
     def test_tree_is_looked_at_ahead_of_place(self):
         self.refused("NoTree", at, BOOK, (2, 0), (5,))
         self.refused("NoTree", at, BOOK, (), (GREAT,))

@@ -51,6 +51,18 @@ def kid_starts(book, row, sizes, start):
     return starts
 
 
+def led(book, row, lead):
+    """What a row leads to, where `lead` tells it of a sign and the tuple of what its kids lead to."""
+    waiting = []
+    # From behind: a sign's kids stand behind it, and what came last is its first kid's.
+    for sign in reversed(row):
+        kids = []
+        for _ in range(book.kids(sign)):
+            kids.append(waiting.pop())
+        waiting.append(lead(sign, tuple(kids)))
+    return waiting[0]
+
+
 def rank(book, row):
     """A list that compares with another tree's list as point 5 orders the trees.
 
