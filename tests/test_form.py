@@ -11,6 +11,11 @@ FUNCTIONS = {
               "put(book, tree, place, other)"),
     "sets": ("joined(one, other)", "met(one, other)", "less(one, other)", "about(reader)", "least(reader)",
              "first_to(reader)", "first(reader)", "same(one, other)", "shows(one, other, pairs)"),
+    "patterns": ("is_pattern(book, pattern)", "fits(book, pattern, tree)", "fitting(book, pattern)",
+                 "holding(book, pattern)"),
+    "counts": ("many(reader, size)", "all_many(reader)", "tree_at(reader, number)", "number_of(reader, tree)",
+               "cheapest(reader, weights)"),
+    "paths": ("shut(reader)", "beside(reader)"),
 }
 CLASSES = {
     "signs": {"Book": ("__init__(self, signs)", "many(self)", "name(self, sign)", "kids(self, sign)",

@@ -50,12 +50,17 @@ class Growth:
                 for sign in range(book.many())]
 
 
-def choices(things, kids):
-    """The list of all tuples of so many of the things, in the order of a table."""
+def picks(lists):
+    """The list of all tuples of a thing of each list, as the things of the first list follow first."""
     told = [()]
-    for _ in range(kids):
+    for things in lists:
         told = [choice + (thing,) for choice in told for thing in things]
     return told
+
+
+def choices(things, kids):
+    """The list of all tuples of so many of the things, in the order of a table."""
+    return picks([things] * kids)
 
 
 def ready(many, kids):

@@ -44,6 +44,10 @@ class Book:
         """How many signs there are."""
         return len(self._names)
 
+    def has(self, sign):
+        """Whether a whole number is that of a sign."""
+        return 0 <= sign < len(self._names)
+
     def name(self, sign):
         """The name of the sign of this number."""
         return self._names[sign]

@@ -3,6 +3,10 @@
 A row names the sign of a tree first and the rows of its kids behind it. So
 each part of a tree is a stretch of its row, known by where it starts and by
 how many signs it has.
+
+For is_row, sizes_of, kid_starts and led the book may be anything that tells
+which signs it has and how many kids each has: in the rows of patterns and of
+turners something else may stand in the place of a whole tree.
 """
 
 from treehands.errors import NoPlace, NoTree
@@ -14,7 +18,7 @@ def is_row(book, row):
     """Whether a tuple of whole numbers is the row of a tree, however long."""
     due = 1
     for sign in row:
-        if due == 0 or not 0 <= sign < book.many():
+        if due == 0 or not book.has(sign):
             return False
         due = due + book.kids(sign) - 1
     return due == 0
@@ -61,6 +65,15 @@ def led(book, row, lead):
             kids.append(waiting.pop())
         waiting.append(lead(sign, tuple(kids)))
     return waiting[0]
+
+
+def shares(size, kids):
+    """The list of the tuples of the kids' sizes in trees of just so many signs, in the order of point 5."""
+    if kids == 0:
+        return [()] if size == 1 else []
+    if kids == 1:
+        return [(size - 1,)] if size > 1 else []
+    return [(here, size - 1 - here) for here in range(1, size - 1)]
 
 
 def rank(book, row):
