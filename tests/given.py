@@ -113,3 +113,30 @@ def even_heights(moods):
     table = [here + 1 if here == there < last else last
              for here, there in slow.product(range(moods), repeat=2)]
     return (moods, [[0], table], list(range(last)))
+
+
+def some_made_row(chance, goals, states, kids, size):
+    """A made row of about so many numbers and tuples by chance."""
+    takes = sorted({told[1] for told in goals if told[1] < size})
+    many = chance.choice(takes[1:] or takes) if size > 1 else 0
+    if many == 0:
+        if kids and chance.random() < 0.8:
+            return ((chance.randrange(states), chance.randrange(kids)),)
+        return (chance.choice([sign for sign, told in enumerate(goals) if told[1] == 0]),)
+    sign = chance.choice([number for number, told in enumerate(goals) if told[1] == many])
+    if many == 1:
+        return (sign,) + some_made_row(chance, goals, states, kids, size - 1)
+    here = chance.randrange(1, size - 1)
+    return ((sign,) + some_made_row(chance, goals, states, kids, here)
+            + some_made_row(chance, goals, states, kids, size - 1 - here))
+
+
+def some_rows(chance, signs, goals, states, most):
+    """The made rows of a turner by chance, each of at most so many numbers and tuples."""
+    return [[some_made_row(chance, goals, states, kids, chance.randrange(1, most + 1)) for _, kids in signs]
+            for _ in range(states)]
+
+
+def rows_of(turner):
+    """All made rows that a Turner tells."""
+    return [[turner.row(state, sign) for sign in range(turner.book().many())] for state in range(turner.states())]

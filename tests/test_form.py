@@ -16,6 +16,13 @@ FUNCTIONS = {
     "counts": ("many(reader, size)", "all_many(reader)", "tree_at(reader, number)", "number_of(reader, tree)",
                "cheapest(reader, weights)"),
     "paths": ("shut(reader)", "beside(reader)"),
+    "turners": ("turned(turner, tree)", "size_turned(turner, tree)", "part_turned(turner, tree, place)",
+                "behind(one, other)", "idle(book)", "again(turner, tree, times)", "parted(one, other, size)"),
+    "lands": ("before(turner, reader)", "back(turner, tree)", "lands(turner, source, goal)",
+              "shows_lands(turner, source, goal, rows)"),
+    "notes": ("tree_text(book, tree)", "pattern_text(book, pattern)", "reader_text(reader)", "turner_text(turner)",
+              "tree_read(book, text)", "pattern_read(book, text)", "reader_read(book, text)",
+              "turner_read(book, goals, text)"),
 }
 CLASSES = {
     "signs": {"Book": ("__init__(self, signs)", "many(self)", "name(self, sign)", "kids(self, sign)",
@@ -24,6 +31,9 @@ CLASSES = {
                            "table(self, sign)", "liked(self)", "mood(self, tree)", "likes(self, tree)")},
     "guesses": {"Guesser": ("__init__(self, book, moods, rules, liked)", "moods_of(self, tree)",
                             "likes(self, tree)", "reader(self)")},
+    "turners": {"Turner": ("__init__(self, book, goals, rows)", "book(self)", "goals(self)", "states(self)",
+                           "row(self, state, sign)")},
+    "desk": {"Desk": ("__init__(self, book)", "say(self, line)")},
 }
 LIBRARY = ("heapq", "math", "itertools", "collections", "__future__")
 

@@ -1,7 +1,7 @@
 """How many trees a reader likes, their numbers, and the cheapest one (points 17 to 19)."""
 
 from treehands.errors import NoNumber
-from treehands.growing import choices, grown, picks
+from treehands.growing import choices, grown
 from treehands.trees import check_tree, kids_of, rank, shares
 
 MOST_COUNTED = 30
@@ -157,7 +157,7 @@ def goes_round(leads, moods):
     reached = list(moods)
     for _ in moods:
         reached = [mood for mood in moods
-                   if any([mood == led and kid in reached for kids, led in leads for kid in kids])]
+                   if any([mood == result and kid in reached for kids, result in leads for kid in kids])]
     # Who takes as many steps as there are moods comes to one of them twice.
     return len(reached) > 0
 

@@ -7,9 +7,9 @@ LONGEST_NAME = 3
 MOST_KIDS = 2
 
 
-def is_name(name):
-    """Whether a text may be a sign's name."""
-    if not 1 <= len(name) <= LONGEST_NAME:
+def is_name(name, longest):
+    """Whether a text is a name of small letters, at most so many."""
+    if not 1 <= len(name) <= longest:
         return False
     # Held against "a" and "z", for islower() also likes letters of other alphabets.
     return all(["a" <= letter <= "z" for letter in name])
@@ -17,7 +17,7 @@ def is_name(name):
 
 def is_sign(sign):
     """Whether a tuple tells a sign: its name and how many kids it has."""
-    return len(sign) == 2 and is_name(sign[0]) and 0 <= sign[1] <= MOST_KIDS
+    return len(sign) == 2 and is_name(sign[0], LONGEST_NAME) and 0 <= sign[1] <= MOST_KIDS
 
 
 def are_signs(signs):
