@@ -1,6 +1,7 @@
 """The interface as it is written, and what of ../shared/LANGUAGE.md can be measured."""
 
 import ast
+import builtins
 import pathlib
 import unittest
 
@@ -36,6 +37,8 @@ CLASSES = {
     "desk": {"Desk": ("__init__(self, book)", "say(self, line)")},
 }
 LIBRARY = ("heapq", "math", "itertools", "collections", "__future__")
+BUILTINS = ("len range enumerate zip min max sum abs sorted reversed int str bool bytes list tuple dict set isinstance ord "
+            "repr any all divmod Exception ValueError TypeError KeyError IndexError LookupError").split()
 
 
 def source(path):
@@ -100,6 +103,34 @@ class LanguageTest(unittest.TestCase):
             for node in ast.parse(source(path)).body:
                 if isinstance(node, (ast.FunctionDef, ast.ClassDef)):
                     self.assertEqual(node.decorator_list, [], path.name)
+
+    def test_builtins_are_those_of_the_subset_and_no_other_names(self):
+        for path in files():
+            tree = ast.parse(source(path))
+            names = [node for node in ast.walk(tree) if isinstance(node, ast.Name)]
+            bound = [node.id for node in names if isinstance(node.ctx, ast.Store)]
+            bound.extend(node.arg for node in ast.walk(tree) if isinstance(node, ast.arg))
+            bound.extend(node.name for node in ast.walk(tree) if isinstance(node, (ast.FunctionDef, ast.ClassDef)))
+            imported = [alias.name for node in tree.body if isinstance(node, ast.ImportFrom) for alias in node.names]
+            used = [node.id for node in names if isinstance(node.ctx, ast.Load)]
+            for name in used:
+                if hasattr(builtins, name):
+                    self.assertIn(name, BUILTINS, path.name)
+            for name in bound:
+                self.assertNotIn(name, BUILTINS, path.name)
+                self.assertNotIn(name, imported, path.name)
+            for name in imported:
+                self.assertIn(name, used, path.name)
+
+    def test_no_two_files_import_from_each_other(self):
+        told = {path.stem: [node.module.split(".")[1] for node in ast.parse(source(path)).body
+                            if isinstance(node, ast.ImportFrom) and node.module.startswith("treehands.")]
+                for path in files()}
+        done = []
+        while len(done) < len(told):
+            ready = [name for name in told if name not in done and all(other in done for other in told[name])]
+            self.assertNotEqual(ready, [], [name for name in told if name not in done])
+            done.extend(ready)
 
     def test_imports_are_full_and_of_the_package(self):
         for path in files():

@@ -501,6 +501,20 @@ class ShowsTest(HandTest):
                 self.assertIs(self.shows(rows), False)
                 self.assertIs(self.shows(self.rows + [(mood, told)]), False)
 
+    def test_moods_out_of_bounds_to_which_nothing_leads_on(self):
+        # All is turned into a leaf and the source has one mood: whatever is in the list, it stays closed.
+        turner = Turner(BOOK, BOOK, [[(0,), (0,), (0,)]])
+        source, goal = made(BOOK, NONE), made(BOOK, (2, [[0], [0, 0], [0] * 4], [0]))
+        self.assertIs(shows_lands(turner, source, goal, [(0, (0,))]), True)
+        self.assertIs(shows_lands(turner, source, goal, [(0, (0,)), (0, (1,))]), True)
+        for mood in (-1, 2, 3) + OUTSIDE:
+            self.assertIs(shows_lands(turner, source, goal, [(0, (0,)), (0, (mood,))]), False)
+            self.assertIs(shows_lands(turner, source, goal, [(0, (mood,)), (0, (0,))]), False)
+        for mood in (-1, 1, 2) + OUTSIDE:
+            self.assertIs(shows_lands(turner, source, goal, [(0, (0,)), (mood, (0,))]), False)
+        for moods in ((), (0, 0), (0, 1), (0,) * 100):
+            self.assertIs(shows_lands(turner, source, goal, [(0, (0,)), (0, moods)]), False)
+
     def test_empty_list(self):
         self.assertIs(self.shows([]), False)
 

@@ -10,11 +10,9 @@ from treehands.patterns import fitting, holding
 from treehands.readers import Reader
 from treehands.sets import about, first, joined, least, less, met, same
 from treehands.signs import is_name
-from treehands.turners import Turner, behind, turned
+from treehands.turners import LONGEST_ROW, MOST_STATES, Turner, behind, turned
 
 LONGEST_NAME = 6
-MOST_STATES = 3
-LONGEST_ROW = 8
 
 # What the words behind the first one stand for. "small" is a reader of at most 3
 # moods, "any reader" and "any turner" are let however great they are, and "kept" is

@@ -7,7 +7,10 @@ the tuple of its kids' states, so no tree has to be built for it.
 
 from heapq import heappop, heappush
 
+from treehands.errors import TooGreat
 from treehands.readers import told_reader
+
+MOST_TOLD = 200
 
 
 class Growth:
@@ -108,6 +111,16 @@ def grown(book, lead, by_size):
             growth.take(state, sign, kids)
             push_ready(waiting, book, lead, growth, by_size)
     return growth
+
+
+def first_tree(growth, wanted):
+    """The first tree whose state is wanted, or None, by a growth by size; refused where it has too many signs."""
+    for number, state in enumerate(growth.found):
+        if wanted(state):
+            if growth.sizes[number] > MOST_TOLD:
+                raise TooGreat("the tree that goes ahead of all others has more than 200 signs")
+            return growth.tree(number)
+    return None
 
 
 def is_closed(book, lead, states):

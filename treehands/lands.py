@@ -1,12 +1,11 @@
 """Sets ahead of a turner, and whether a turner lands in a set (points 26 to 28)."""
 
-from treehands.errors import NoTree, TooGreat, Unlike
-from treehands.growing import grown, is_closed, least_reader
+from treehands.errors import NoTree, Unlike
+from treehands.growing import first_tree, grown, is_closed, least_reader
 from treehands.trees import is_tree, led
 from treehands.turning import Sharing, Through
 
 MOST_BACK = 5
-MOST_TOLD = 200
 
 
 def check_goals(turner, goal):
@@ -28,16 +27,6 @@ def before(turner, reader):
     liked = reader.liked()
     through = Through(turner, reader.lead)
     return least_reader(turner.book(), through.lead, lambda moods: moods[0] in liked)
-
-
-def first_tree(growth, wanted):
-    """The first tree whose state is wanted, or None; the growth is by size."""
-    for number, state in enumerate(growth.found):
-        if wanted(state):
-            if growth.sizes[number] > MOST_TOLD:
-                raise TooGreat("the tree that goes ahead of all others has more than 200 signs")
-            return growth.tree(number)
-    return None
 
 
 def back(turner, tree):

@@ -5,23 +5,25 @@ from treehands.sets import same
 
 
 def below(reader, met, moods, sign):
-    """Where a part may come to these moods alone, a list of what its kids may come to, else None.
+    """To what the kids of a part of this sign may come that comes to one of these moods.
 
-    It has for each kid the rising tuple of all moods to which it comes in some such part of this sign.
+    Told is a list: for each kid the rising tuple of its moods in all such parts. None
+    where there is no such part.
     """
     kids = reader.book().kids(sign)
     ways = [way for way in choices(met, kids) if reader.lead(sign, way) in moods]
     if not ways:
         return None
-    return [tuple(sorted({way[kid] for way in ways})) for kid in range(kids)]
+    return [tuple(sorted({moods_of_kids[kid] for moods_of_kids in ways})) for kid in range(kids)]
 
 
 def steps_down(reader):
-    """A dict: where the paths of the set may go from the top of a liked tree.
+    """How the paths of the set go on, from the tops of the liked trees down.
 
-    Its keys are tuples of a number and a sign. The numbers stand for the tuples of
-    moods to which the part may come to which a path has gone, 0 for its top. What it
-    has is the list of the numbers of the kids, where the path may go on by this sign.
+    Wherever a path has gone, the part that stands there may come to some moods alone.
+    Each such tuple of moods has a number, that of the tops has 0. Told is a dict: for
+    a tuple of a number and a sign by which some path goes on there, the list of the
+    kids' numbers.
     """
     met = grown(reader.book(), reader.lead, False).found
     liked = reader.liked()
@@ -37,7 +39,7 @@ def steps_down(reader):
                     if moods not in numbers:
                         numbers[moods] = len(found)
                         found.append(moods)
-                steps[(done, sign)] = [numbers[moods] for moods in kids]
+                steps[(done, sign)] = [numbers[kid] for kid in kids]
         done += 1
     return steps
 

@@ -50,7 +50,7 @@ def fitted(book, pattern):
     """
     signs = PatternSigns(book)
     sizes = sizes_of(signs, pattern)
-    below = [kid_starts(signs, pattern, sizes, start) for start in range(len(pattern))]
+    below = [kid_starts(signs, pattern, sizes, place) for place in range(len(pattern))]
 
     def fits_at(start, sign, kids):
         if pattern[start] == ANY:

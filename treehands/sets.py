@@ -1,9 +1,7 @@
 """Sets of trees by their readers (points 9 and 11 to 14)."""
 
-from treehands.errors import TooGreat, Unlike
-from treehands.growing import grown, is_closed, least_reader
-
-MOST_TOLD = 200
+from treehands.errors import Unlike
+from treehands.growing import first_tree, grown, is_closed, least_reader
 
 
 def check_alike(one, other):
@@ -81,12 +79,8 @@ def same(one, other):
     """A paper: ("alike", pairs), or ("unlike", tree) with the first tree that just one likes."""
     check_alike(one, other)
     growth = grown(one.book(), paired(one, other), True)
-    for number, pair in enumerate(growth.found):
-        if not is_fair(one, other, pair):
-            if growth.sizes[number] > MOST_TOLD:
-                raise TooGreat("the first tree that just one likes has more than 200 signs")
-            return ("unlike", growth.tree(number))
-    return ("alike", sorted(growth.found))
+    tree = first_tree(growth, lambda pair: not is_fair(one, other, pair))
+    return ("alike", sorted(growth.found)) if tree is None else ("unlike", tree)
 
 
 def is_fair(one, other, pair):

@@ -1,14 +1,13 @@
 """Turners: they go through trees from the top and make other ones of them (points 22 to 25)."""
 
 from treehands.errors import NoNumber, NoTurner, TooGreat, Unlike
-from treehands.growing import picks
+from treehands.growing import MOST_TOLD, picks
 from treehands.trees import check_tree, is_row, shares
 from treehands.turning import MadeSigns, Sharing, Through, Turning
 
 MOST_STATES = 3
 LONGEST_ROW = 8
 LONGEST_BEHIND = 60
-MOST_TOLD = 200
 MOST_TIMES = 20
 MOST_PARTED = 5
 
